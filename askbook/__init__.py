@@ -1,0 +1,1 @@
+"""Askbook: books of facts, and what holds of every book."""
