@@ -66,6 +66,11 @@ def terms_of(atoms):
     return terms
 
 
+def are_standing(terms, atoms):
+    standing = stand_ins(terms_of(atoms))
+    return all([name in standing for name in stand_ins(terms)])
+
+
 def checked_book(book):
     if not isinstance(book, list) or not all([is_fact(fact) for fact in book]):
         raise NoBook("a book is a list of facts")
@@ -87,7 +92,6 @@ def checked_asking(asking):
         raise NoAsking("an asking has a tuple of 1 to 6 atoms")
     if not are_of_one_length(atoms):
         raise NoAsking("atoms of one name have equally many terms")
-    standing = stand_ins(terms_of(atoms))
-    if not all([name in standing for name in stand_ins(head)]):
+    if not are_standing(head, atoms):
         raise NoAsking("each stand-in of the head stands in an atom")
     return asking

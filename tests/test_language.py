@@ -33,6 +33,14 @@ UNUSED_WORDS = re.compile(
 METHODS_WITH_UNDERSCORES = {"__init__", "__eq__", "__repr__", "__str__", "__len__"}
 PLAIN_WORD = re.compile(r"\A[A-Za-z][A-Za-z0-9_]*\Z")
 
+WALKED_NAMES = {"zip", "enumerate", "reversed", "range"}
+WALKED_METHODS = {"items", "keys", "values"}
+WALKERS = {"list", "tuple", "dict", "sorted", "sum", "any", "all", "enumerate", "zip"}
+KEYWORDS = {
+    "sorted": {"key", "reverse"}, "min": {"key", "default"}, "max": {"key", "default"}, "sum": {"start"},
+    "enumerate": {"start"}, "zip": {"strict"},
+}
+
 STATEMENTS = (
     ast.FunctionDef, ast.ClassDef, ast.ImportFrom, ast.Assign, ast.AugAssign, ast.If, ast.While, ast.For, ast.Return,
     ast.Break, ast.Continue, ast.Pass, ast.Raise, ast.Try, ast.Expr,
@@ -49,6 +57,18 @@ def sources():
 
 def trees():
     return [(path, ast.parse(path.read_text(encoding="utf-8"))) for path in sources()]
+
+
+def walked_places(tree):
+    """The nodes that are walked on the spot: behind an `in`, or first in a call that walks."""
+    found = []
+    for node in ast.walk(tree):
+        if isinstance(node, (ast.For, ast.comprehension)):
+            found.append(node.iter)
+        if isinstance(node, ast.Call) and isinstance(node.func, ast.Name):
+            if node.func.id in WALKERS or (node.func.id in ("min", "max") and len(node.args) == 1):
+                found.extend(node.args if node.func.id == "zip" else node.args[:1])
+    return found
 
 
 def own_methods():
@@ -219,6 +239,42 @@ class LanguageTest(unittest.TestCase):
             bound = {node.arg for node in ast.walk(tree) if isinstance(node, ast.arg)}
             bound |= {node.id for node in ast.walk(tree) if isinstance(node, ast.Name) and isinstance(node.ctx, ast.Store)}
             self.assertEqual(sorted(taken & bound), [], path.name)
+
+    def test_errors_that_are_taken(self):
+        own = {part.name for path, tree in trees() for part in tree.body if isinstance(part, ast.ClassDef)}
+
+        def check(node):
+            self.assertIsInstance(node.type, ast.Name)
+            self.assertIn(node.type.id, own | {"KeyError", "ZeroDivisionError", "StopIteration"})
+
+        self.hold(check, ast.ExceptHandler)
+
+    def test_keywords(self):
+        def check(node):
+            name = node.func.id if isinstance(node.func, ast.Name) else ""
+            self.assertLessEqual({keyword.arg for keyword in node.keywords}, KEYWORDS.get(name, set()))
+
+        self.hold(check, ast.Call)
+
+    def test_what_is_walked_is_walked_on_the_spot(self):
+        for path, tree in trees():
+            walked = [id(node) for node in walked_places(tree)]
+            for node in ast.walk(tree):
+                if not isinstance(node, ast.Call):
+                    continue
+                name = node.func.id if isinstance(node.func, ast.Name) else None
+                method = node.func.attr if isinstance(node.func, ast.Attribute) else None
+                if name in WALKED_NAMES or method in WALKED_METHODS:
+                    self.assertIn(id(node), walked, (path.name, node.lineno))
+
+    def test_no_name_of_pythons_own_is_handed_on(self):
+        for path, tree in trees():
+            called = [id(node.func) for node in ast.walk(tree) if isinstance(node, ast.Call)]
+            for node in ast.walk(tree):
+                if isinstance(node, ast.Name) and node.id in ("len", "sorted", "min", "max", "sum", "all", "any"):
+                    self.assertIn(id(node), called, (path.name, node.lineno))
+                if isinstance(node, ast.Attribute) and node.attr in METHODS:
+                    self.assertIn(id(node), called, (path.name, node.lineno))
 
     def test_methods(self):
         own = own_methods()
