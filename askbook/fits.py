@@ -1,11 +1,12 @@
-"""What fits atoms in some facts, and how it is joined."""
+"""What fits atoms in some facts, or parts in a table, and how it is joined."""
 
 from askbook.puts import put_further, put_in
-from askbook.things import stand_ins, terms_of
+from askbook.things import stand_ins
 
 
-# Rows of numbers with a column for each of some stand-ins: a dict that has for
-# each row facts that show it, one for each atom joined, in order of joining.
+# Rows of numbers with a column for each of some stand-ins (or columns of a
+# table): a dict that has for each row facts that show it, one for each atom
+# joined, in order of joining.
 class Fits:
     def __init__(self, columns, rows):
         self.columns = columns
@@ -67,7 +68,8 @@ def joined(one, other, needed):
     left = narrowed(one, needed + shared)
     right = narrowed(other, needed + shared)
     both = left.columns + right.columns
-    columns = [name for name in stand_ins(both) if name in needed]
+    once = left.columns + [name for name in right.columns if name not in shared]
+    columns = [name for name in once if name in needed]
     places = places_of(columns, both)
     shared_places = places_of(shared, left.columns)
     partners = rows_by_columns(right, shared)
@@ -100,23 +102,28 @@ def kept(one, other):
     return Fits(one.columns, rows)
 
 
-def joining_cost(atom, known):
-    names = stand_ins(atom[1])
-    fresh = [name for name in names if name not in known]
-    stands_apart = len(fresh) == len(names)
+def joining_cost(part, known):
+    fresh = [name for name in part.columns if name not in known]
+    stands_apart = len(fresh) == len(part.columns)
     return (stands_apart, len(fresh))
 
 
-def joining_order(atoms, begun):
-    # Places of atoms, those begun with ahead. The order is free; an atom that
+def joining_order(parts, begun):
+    # Places of parts, those begun with ahead. The order is free; a part that
     # hangs on what is known narrows the rows, one that stands apart multiplies them.
     order = list(begun)
-    left = [place for place in range(len(atoms)) if place not in order]
+    left = [place for place in range(len(parts)) if place not in order]
     while left:
-        known = stand_ins(terms_of([atoms[place] for place in order]))
-        costs = [joining_cost(atoms[place], known) for place in left]
+        known = []
+        for place in order:
+            known.extend(parts[place].columns)
+        costs = [joining_cost(parts[place], known) for place in left]
         order.append(left.pop(costs.index(min(costs))))
     return order
+
+
+def joined_freely(parts, wanted):
+    return all_joined([parts[place] for place in joining_order(parts, [])], wanted)
 
 
 def head_rows(head, fits):

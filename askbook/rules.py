@@ -32,9 +32,9 @@ def made_with(rule, place, known, fresh):
     # Tuples (fact, facts): what the rule makes, and of what, where the atom of this place becomes a fresh fact.
     first = rule[0]
     atoms = rule[1]
-    order = joining_order(atoms, [place])
-    parts = [atom_fits(atoms[at], fresh if at == place else known) for at in order]
-    fits = all_joined(parts, stand_ins(first[1]))
+    parts = [atom_fits(atom, fresh if at == place else known) for at, atom in enumerate(atoms)]
+    order = joining_order(parts, [place])
+    fits = all_joined([parts[at] for at in order], stand_ins(first[1]))
     made = []
     for row, shown in fits.rows.items():
         fact = (first[0], put_in(first[1], dict(zip(fits.columns, row))))

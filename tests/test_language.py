@@ -1,7 +1,8 @@
 """The package keeps to the part of Python that the program is written in.
 
 Seen here are the rules that a walk over the source can see; some are held
-narrower than they are told (no sets, no annotations, no `__main__.py`).
+narrower than they are told (no sets but straight within `sorted` or `len`, no
+annotations, no `__main__.py`).
 """
 
 import ast
@@ -13,8 +14,8 @@ import unittest
 PACKAGE = pathlib.Path(__file__).resolve().parent.parent / "askbook"
 
 OWN_NAMES = set("""
-    len range enumerate zip min max sum abs sorted reversed int str bool list tuple dict isinstance ord repr any all
-    divmod Exception ValueError TypeError KeyError IndexError LookupError ZeroDivisionError ArithmeticError
+    len range enumerate zip min max sum abs sorted reversed int str bool list tuple dict set isinstance ord repr any
+    all divmod Exception ValueError TypeError KeyError IndexError LookupError ZeroDivisionError ArithmeticError
     OverflowError RuntimeError NotImplementedError StopIteration
 """.split())
 METHODS = set("""
@@ -25,7 +26,7 @@ METHODS = set("""
 UNUSED_NAMES = set("""
     register mro elements open input version_info with_traceback add_note attrgetter breakpoint builtins compile
     copyright credits delattr dir eval exec exit gc getattr globals hasattr help id importlib license locals
-    methodcaller os quit setattr super type vars sys chr set frozenset format format_map
+    methodcaller os quit setattr super type vars sys chr frozenset format format_map
 """.split())
 UNUSED_WORDS = re.compile(
     r"\b(type|typing|typing_extensions|enum|Enum|IntEnum|StrEnum|Flag|IntFlag|Generic|Protocol|ABC|ABCMeta|namedtuple"
@@ -266,6 +267,17 @@ class LanguageTest(unittest.TestCase):
                 method = node.func.attr if isinstance(node.func, ast.Attribute) else None
                 if name in WALKED_NAMES or method in WALKED_METHODS:
                     self.assertIn(id(node), walked, (path.name, node.lineno))
+
+    def test_sets_are_only_sorted_or_counted(self):
+        for path, tree in trees():
+            right = []
+            for node in ast.walk(tree):
+                if isinstance(node, ast.Call) and isinstance(node.func, ast.Name) and node.func.id in ("sorted", "len"):
+                    if len(node.args) == 1 and not node.keywords and isinstance(node.args[0], ast.Call):
+                        right.append(id(node.args[0].func))
+            for node in ast.walk(tree):
+                if isinstance(node, ast.Name) and node.id == "set":
+                    self.assertIn(id(node), right, (path.name, node.lineno))
 
     def test_no_name_of_pythons_own_is_handed_on(self):
         for path, tree in trees():
